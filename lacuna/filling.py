@@ -1,7 +1,7 @@
 """Opening terms and filling holes (points 15, 16, 18 and 19)."""
 
 from lacuna.errors import LimitError
-from lacuna.terms import MOST, MOST_DEEP, folded, is_term, lifted, long_head, long_hole, places
+from lacuna.terms import MOST, MOST_DEEP, are_terms, folded, lifted, long_head, long_hole, places
 
 # A weighed term is a triple of a term, the number of its nodes, and how many terms stand within one another.
 
@@ -15,20 +15,26 @@ def weighed_node(n, head, parts):
     return (n, head, tuple([part[0] for part in parts])), nodes, deep
 
 
-def opened_node(n, term, terms):
-    """The weighed term with n own binders whose head and parts are those of the term opened with the terms."""
-    own = term[0]
+def opened_under(term, terms, d):
+    """The weighed term opened with the terms, where d binders lie between these and the term's own binders."""
+    many = len(terms)
 
     def change(node, inner, parts):
         m, head, _ = node
-        between = inner - own
+        between = d + inner
         if head[0] != "b" or head[1] < between:
             return weighed_node(m, head, parts)
-        if head[1] >= inner:
-            return weighed_node(m, ("b", head[1] - own), parts)
-        return put_in(m, lifted(terms[inner - 1 - head[1]], between), parts)
+        if head[1] >= between + many:
+            return weighed_node(m, ("b", head[1] - many), parts)
+        return put_in(m, lifted(terms[between + many - 1 - head[1]], between), parts)
 
-    told, nodes, deep = folded(term, change)
+    return folded(term, change)
+
+
+def opened_node(n, term, terms):
+    """The weighed term with n own binders whose head and parts are those of the term opened with the terms."""
+    # The own binders are those that are opened: none of them lies between.
+    told, nodes, deep = opened_under(term, terms, -term[0])
     return (n, told[1], told[2]), nodes, deep
 
 
@@ -71,9 +77,7 @@ def unchanged(holes):
 
 def is_filling(signature, old, new, value):
     """Whether any value is a filling from holes with the types old to holes with the types new."""
-    if type(value) is not tuple or len(value) != len(old):
-        return False
-    return all([is_term(signature, new, (), old[k], value[k]) for k in range(len(old))])
+    return type(value) is tuple and are_terms(signature, new, (), old, value)
 
 
 def binders_of(parts):
@@ -103,11 +107,20 @@ def reordered(row, order):
     return tuple([row[j] for j in order])
 
 
-def tidied(signature, old, new, values):
-    """The pair of the types and the values of the tidy filling for a filling that is a pattern."""
+def tidy_orders(values):
+    """For each hole that occurs, in the order of the first places, the order of its parts that is tidy."""
     found = first_parts(values)
-    orders = {k: falling(found[k]) for k in found}
-    ranks = {k: rank for rank, k in enumerate(found)}
+    return {k: falling(found[k]) for k in found}
+
+
+def tidy_kinds(new, orders):
+    """The types of the holes that occur, tidy."""
+    return tuple([(reordered(new[k][0], orders[k]), new[k][1]) for k in orders])
+
+
+def tidy_term(term, orders):
+    """The term with its holes numbered, and their parts ordered, as is tidy."""
+    ranks = {k: rank for rank, k in enumerate(orders)}
 
     def change(node, inner, parts):
         n, head, _ = node
@@ -115,8 +128,13 @@ def tidied(signature, old, new, values):
             return (n, ("h", ranks[head[1]]), reordered(parts, orders[head[1]]))
         return (n, head, tuple(parts))
 
-    kinds = [(reordered(new[k][0], orders[k]), new[k][1]) for k in found]
-    return tuple(kinds), tuple([folded(value, change) for value in values])
+    return folded(term, change)
+
+
+def tidied(signature, old, new, values):
+    """The pair of the types and the values of the tidy filling for a filling that is a pattern."""
+    orders = tidy_orders(values)
+    return tidy_kinds(new, orders), tuple([tidy_term(value, orders) for value in values])
 
 
 def uses_only(term, numbers):

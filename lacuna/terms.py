@@ -45,6 +45,27 @@ def is_type(value):
     return True
 
 
+def is_kind(value):
+    """Whether any value is a type that something else than a constant may have."""
+    return is_type(value) and value[1] != FORMULAS
+
+
+def are_kinds(value):
+    """Whether any value is a tuple of types that something else than a constant may have."""
+    return type(value) is tuple and all([is_kind(kind) for kind in value])
+
+
+def takes_sorts(kind):
+    """Whether all arguments of a type are sorts."""
+    return all([not argument[0] for argument in kind[0]])
+
+
+def copies_well(signature):
+    """Whether each argument of a constant that is no predicate has sorts alone as its own arguments."""
+    kinds = [kind for _, kind in signature if kind[1] != FORMULAS]
+    return all([takes_sorts(argument) for kind in kinds for argument in kind[0]])
+
+
 def is_signature(value):
     """Whether any value is a signature."""
     if type(value) is not tuple:
@@ -97,6 +118,13 @@ def is_term(signature, holes, prefix, kind, value):
     return True
 
 
+def are_terms(signature, holes, prefix, kinds, values):
+    """Whether any values, in a tuple, are terms of the types in the prefix, one by one."""
+    if len(kinds) != len(values):
+        return False
+    return all([is_term(signature, holes, prefix, kinds[j], values[j]) for j in range(len(kinds))])
+
+
 def places(term):
     """The nodes in the order of reading, each with the number of binders from the term's own to its own."""
     # No recursion here and in folded: terms may be deep, and opening one goes into the terms it puts in.
@@ -129,6 +157,22 @@ def size(term):
     return len(places(term))
 
 
+def depth(term):
+    """How many terms stand within one another."""
+    return folded(term, lambda node, inner, parts: 1 + max(parts, default=0))
+
+
+def is_same(left, right):
+    """Whether two terms are equal; for those that Python's own comparison would take too deep."""
+    todo = [(left, right)]
+    while todo:
+        (n, head, parts), (m, other, others) = todo.pop()
+        if n != m or head != other or len(parts) != len(others):
+            return False
+        todo.extend(list(zip(parts, others)))
+    return True
+
+
 def raised_head(head, k):
     """The head with k added to its number if it is a binder."""
     if head[0] == "b":
@@ -136,26 +180,34 @@ def raised_head(head, k):
     return head
 
 
-def lifted(term, k):
-    """The term lifted by k."""
+def lifted_under(term, k, d):
+    """The term lifted by k, where d binders around it count as own ones."""
     if k == 0:
         return term
 
     def change(node, inner, parts):
         n, head, _ = node
-        if head[0] == "b" and head[1] >= inner:
+        if head[0] == "b" and head[1] >= d + inner:
             head = raised_head(head, k)
         return (n, head, tuple(parts))
 
     return folded(term, change)
 
 
+def lifted(term, k):
+    """The term lifted by k."""
+    return lifted_under(term, k, 0)
+
+
 def long_form(head, kind):
     """The long form of a head, told from outside of the own binders, of the type kind."""
-    arguments = kind[0]
-    n = len(arguments)
-    parts = [long_form(("b", n - 1 - j), arguments[j]) for j in range(n)]
-    return (n, raised_head(head, n), tuple(parts))
+    n = len(kind[0])
+    return (n, raised_head(head, n), long_row(kind[0]))
+
+
+def long_row(binders):
+    """The long forms of all binders with these types, outermost first, in the prefix of these."""
+    return tuple([long_form(("b", len(binders) - 1 - j), binders[j]) for j in range(len(binders))])
 
 
 def long_binder(i, kind):
@@ -193,7 +245,12 @@ def is_binder_row(parts):
     return len(set(heads)) == len(heads)
 
 
-def is_pattern(signature, holes, prefix, kind, term):
-    """Whether a term of the type kind in the prefix is a pattern."""
+def has_pattern_form(term):
+    """Whether a term is a pattern; its type plays no part."""
     nodes = [node for node, _ in places(term)]
     return all([is_binder_row(node[2]) for node in nodes if node[1][0] == "h"])
+
+
+def is_pattern(signature, holes, prefix, kind, term):
+    """Whether a term of the type kind in the prefix is a pattern."""
+    return has_pattern_form(term)

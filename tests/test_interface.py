@@ -3,7 +3,7 @@
 import inspect
 import unittest
 
-from lacuna import errors, filling, terms
+from lacuna import derivations, errors, filling, matching, patterns, rules, terms
 
 TERMS = {
     "is_type": ["value"],
@@ -24,6 +24,36 @@ FILLING = {
     "tidied": ["signature", "old", "new", "values"],
     "more_of": ["signature", "old", "new", "values", "others"],
 }
+PATTERNS = {
+    "is_problem": ["value"],
+    "simplified": ["signature", "holes", "equations"],
+    "solves": ["problem", "new", "values"],
+    "solve": ["problem"],
+    "row": ["problem"],
+    "follow": ["problem", "row"],
+}
+MATCHING = {
+    "is_matching": ["value"],
+    "match": ["problem"],
+    "tree": ["problem"],
+    "answers": ["problem", "tree"],
+}
+RULES = {
+    "check_program": ["program"],
+    "check_question": ["program", "question"],
+    "open_goal": ["goal", "terms"],
+    "open_rule": ["rule", "terms"],
+    "fill_goal": ["values", "goal"],
+    "lift_goal": ["goal", "k"],
+    "lift_rule": ["rule", "k"],
+}
+DERIVATIONS = {
+    "is_derivation": ["program", "question", "rows"],
+    "height": ["rows"],
+    "filled": ["rows", "filling"],
+    "put": ["program", "question", "rows", "term"],
+    "renumbered": ["rows", "first", "more"],
+}
 PLAIN_ERRORS = ("LimitError", "BadForm", "BadName", "BadType", "HasMatch", "NotPattern")
 
 
@@ -42,6 +72,52 @@ class Interface(unittest.TestCase):
 
     def test_filling(self):
         self.check(filling, FILLING)
+
+    def test_patterns(self):
+        self.check(patterns, PATTERNS)
+
+    def test_matching(self):
+        self.check(matching, MATCHING)
+        self.assertEqual(matching.MOST_ANSWERS, 1000)
+
+    def test_rules(self):
+        self.check(rules, RULES)
+
+    def test_derivations(self):
+        self.check(derivations, DERIVATIONS)
+
+
+class Calls(unittest.TestCase):
+    def test_no_answer_depends_on_earlier_calls(self):
+        a = ((), "a")
+        term, hole = (0, ("c", "c"), ()), (0, ("h", 0), ())
+        signature = (("c", a), ("f", ((a, a), "a")), ("p", ((a,), "o")))
+        function = ((a,), "a")
+        two = (0, ("c", "f"), (term, term))
+        problem = (signature, (function,), (((), a, (0, ("h", 0), (term,)), two),))
+        program = (signature, (((a,), "p", ((0, ("b", 0), ()),), ("true",)),))
+        question = ((a,), ("atom", "p", (hole,)))
+        rows = (("use", 0, (hole,)), ("true",))
+        asked = (
+            lambda: patterns.solve(problem), lambda: patterns.row(problem), lambda: matching.match(problem),
+            lambda: matching.tree(problem), lambda: matching.answers(problem, matching.tree(problem)),
+            lambda: rules.check_program(program), lambda: rules.check_question(program, question),
+            lambda: derivations.is_derivation(program, question, rows), lambda: derivations.filled(rows, (term,)),
+        )
+        told = [repr(ask()) for ask in asked]
+        self.assertEqual([repr(ask()) for ask in reversed(asked)], told[::-1])
+
+    def test_lists_are_new_ones(self):
+        a = ((), "a")
+        hole = (0, ("h", 0), ((0, ("c", "c"), ()),))
+        problem = ((("c", a),), (((a,), "a"),), (((), a, hole, (0, ("c", "c"), ())),))
+        tree = matching.tree(problem)
+        for ask in (lambda: matching.match(problem), lambda: matching.answers(problem, tree)):
+            told = ask()
+            self.assertIs(type(told), list)
+            self.assertEqual(len(told), 2)
+            told.clear()
+            self.assertEqual(len(ask()), 2)
 
 
 class Errors(unittest.TestCase):
