@@ -78,28 +78,29 @@ def class_atom(rng, signature, holes, binders, fuel):
     return p, tuple(class_term(rng, signature, holes, binders, kind, fuel) for kind in needed)
 
 
-def class_rule(rng, signature, binders, fuel, holes=(), tags=TAGS):
-    types = tuple(rng.choice(TYPES) for _ in range(rng.randrange(3)))
+def class_rule(rng, signature, binders, fuel, holes=(), tags=TAGS, kinds=TYPES):
+    types = tuple(rng.choice(kinds) for _ in range(rng.randrange(3)))
     inner = binders + tuple((kind, True) for kind in types)
     p, parts = class_atom(rng, signature, holes, inner, 2)
-    return (types, p, parts, class_goal(rng, signature, inner, fuel - 1, holes, tags))
+    return (types, p, parts, class_goal(rng, signature, inner, fuel - 1, holes, tags, kinds))
 
 
-def class_goal(rng, signature, binders, fuel, holes=(), tags=TAGS):
+def class_goal(rng, signature, binders, fuel, holes=(), tags=TAGS, kinds=TYPES):
     tag = rng.choice(tags if fuel > 0 else ("true", "atom", "equal"))
     if tag == "true":
         return ("true",)
     if tag == "atom":
         return ("atom",) + class_atom(rng, signature, holes, binders, 2)
+    rest = (fuel - 1, holes, tags, kinds)
     if tag in ("and", "or"):
-        return (tag,) + tuple(class_goal(rng, signature, binders, fuel - 1, holes, tags) for _ in range(2))
+        return (tag,) + tuple(class_goal(rng, signature, binders, *rest) for _ in range(2))
     if tag in ("some", "all"):
-        kind = rng.choice(TYPES)
-        return (tag, kind, class_goal(rng, signature, binders + ((kind, tag == "some"),), fuel - 1, holes, tags))
+        kind = rng.choice(kinds)
+        return (tag, kind, class_goal(rng, signature, binders + ((kind, tag == "some"),), *rest))
     if tag == "given":
-        rules = tuple(class_rule(rng, signature, binders, fuel - 1, holes, tags) for _ in range(rng.randrange(1, 3)))
-        return (tag, rules, class_goal(rng, signature, binders, fuel - 1, holes, tags))
-    kind = rng.choice(TYPES)
+        rules = tuple(class_rule(rng, signature, binders, *rest) for _ in range(rng.randrange(1, 3)))
+        return (tag, rules, class_goal(rng, signature, binders, *rest))
+    kind = rng.choice(kinds)
     first = class_term(rng, signature, holes, binders, kind, 2, tag == "match")
     return (tag, kind, first, class_term(rng, signature, holes, binders, kind, 2))
 

@@ -3,7 +3,9 @@
 import inspect
 import unittest
 
-from lacuna import derivations, errors, filling, matching, patterns, rules, terms
+from lacuna import (
+    derivations, errors, filling, heights, levels, machine, matching, patterns, plain, rules, terms,
+)
 
 TERMS = {
     "is_type": ["value"],
@@ -54,6 +56,18 @@ DERIVATIONS = {
     "put": ["program", "question", "rows", "term"],
     "renumbered": ["rows", "first", "more"],
 }
+PLAIN = {
+    "search": ["program", "question", "steps", "many"],
+}
+HEIGHTS = {
+    "by_height": ["program", "question", "height"],
+    "refusal": ["program", "question", "height"],
+    "is_refusal": ["program", "question", "paper"],
+}
+LEVELS = {
+    "raised": ["signature", "problem"],
+    "solve_levels": ["signature", "problem"],
+}
 PLAIN_ERRORS = ("LimitError", "BadForm", "BadName", "BadType", "HasMatch", "NotPattern")
 
 
@@ -83,8 +97,24 @@ class Interface(unittest.TestCase):
     def test_rules(self):
         self.check(rules, RULES)
 
+    def check_class(self, module, name, arguments, methods):
+        self.assertTrue(inspect.isclass(getattr(module, name)))
+        self.assertEqual(getattr(module, name).__module__, module.__name__)
+        self.assertEqual(list(inspect.signature(getattr(module, name)).parameters), arguments)
+        for method, listed in methods.items():
+            # Each method is defined in the class itself.
+            function = vars(getattr(module, name))[method]
+            self.assertTrue(inspect.isfunction(function))
+            self.assertEqual(list(inspect.signature(function).parameters), ["self"] + listed)
+
     def test_derivations(self):
         self.check(derivations, DERIVATIONS)
+
+    def test_searches(self):
+        self.check(plain, PLAIN)
+        self.check(heights, HEIGHTS)
+        self.check(levels, LEVELS)
+        self.check_class(machine, "Machine", ["program"], {"ask": ["question", "steps", "many"]})
 
 
 class Calls(unittest.TestCase):
@@ -98,7 +128,15 @@ class Calls(unittest.TestCase):
         program = (signature, (((a,), "p", ((0, ("b", 0), ()),), ("true",)),))
         question = ((a,), ("atom", "p", (hole,)))
         rows = (("use", 0, (hole,)), ("true",))
+        refused = ((), ("equal", a, term, two))
+        sides = (0, ("h", 0), ((0, ("n", 1), ()),)), (0, ("h", 1), ())
+        leveled = ((a,), ((0, function), (1, a)), ((a,) + sides,))
+        asking = machine.Machine(program)
         asked = (
+            lambda: plain.search(program, question, 9, 9), lambda: asking.ask(question, 9, 9),
+            lambda: heights.by_height(program, question, 3), lambda: heights.refusal(program, refused, 3),
+            lambda: heights.is_refusal(program, refused, ((),)), lambda: levels.raised(signature, leveled),
+            lambda: levels.solve_levels(signature, leveled), lambda: asking.ask(refused, 9, 9),
             lambda: patterns.solve(problem), lambda: patterns.row(problem), lambda: matching.match(problem),
             lambda: matching.tree(problem), lambda: matching.answers(problem, matching.tree(problem)),
             lambda: rules.check_program(program), lambda: rules.check_question(program, question),
