@@ -190,12 +190,7 @@ class Filler:
 
     def told(self):
         """What the holes were filled with in solving, by their numbers, with no hole in it that is filled."""
-        values = {}
-        rest = MOST_NODES
-        for hole in self.found:
-            values[hole], nodes = term_under(self.filling[hole], (), 0, self.filling, rest)
-            rest -= nodes
-        return values
+        return {hole: term_under(self.filling[hole], (), 0, self.filling, MOST_NODES)[0] for hole in self.found}
 
 
 class Solver:

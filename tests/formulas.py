@@ -86,7 +86,7 @@ def class_rule(rng, signature, binders, fuel, holes=(), tags=TAGS, kinds=TYPES):
 
 
 def class_goal(rng, signature, binders, fuel, holes=(), tags=TAGS, kinds=TYPES):
-    tag = rng.choice(tags if fuel > 0 else ("true", "atom", "equal"))
+    tag = rng.choice(tags if fuel > 0 else [tag for tag in ("true", "atom", "equal") if tag in tags])
     if tag == "true":
         return ("true",)
     if tag == "atom":

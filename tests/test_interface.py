@@ -4,7 +4,8 @@ import inspect
 import unittest
 
 from lacuna import (
-    derivations, errors, filling, heights, levels, machine, matching, patterns, plain, rules, terms,
+    cutting, derivations, desk, errors, filling, heights, levels, machine, matching, patterns, plain, proofterms, rules,
+    terms, texts,
 )
 
 TERMS = {
@@ -68,6 +69,29 @@ LEVELS = {
     "raised": ["signature", "problem"],
     "solve_levels": ["signature", "problem"],
 }
+CUTTING = {
+    "is_plain": ["goal"],
+    "clauses": ["goal"],
+    "rules_of": ["goal"],
+    "goal_of": ["rule"],
+    "cut": ["program", "middle", "goal", "first", "second"],
+    "identity": ["program", "goal"],
+}
+PROOFTERMS = {
+    "proof_types": ["program", "goal"],
+    "to_terms": ["program", "goal", "rows"],
+    "from_terms": ["program", "goal", "terms"],
+}
+TEXTS = {
+    "read_type": ["text"],
+    "write_type": ["kind"],
+    "read_term": ["signature", "names", "prefix", "kind", "text"],
+    "write_term": ["signature", "holes", "prefix", "kind", "term"],
+    "read_program": ["text"],
+    "write_program": ["program"],
+    "read_question": ["program", "text"],
+    "write_question": ["program", "question"],
+}
 PLAIN_ERRORS = ("LimitError", "BadForm", "BadName", "BadType", "HasMatch", "NotPattern")
 
 
@@ -115,6 +139,12 @@ class Interface(unittest.TestCase):
         self.check(heights, HEIGHTS)
         self.check(levels, LEVELS)
         self.check_class(machine, "Machine", ["program"], {"ask": ["question", "steps", "many"]})
+
+    def test_derivations_and_texts(self):
+        self.check(cutting, CUTTING)
+        self.check(proofterms, PROOFTERMS)
+        self.check(texts, TEXTS)
+        self.check_class(desk, "Desk", [], {"take": ["text"], "program": []})
 
 
 class Calls(unittest.TestCase):
