@@ -253,6 +253,14 @@ class Cuts(unittest.TestCase):
                    (("right",), ("some", D), ("and",), ("all",)) + first + (("equal",),))
         second = (("given",), ("left",), ("use", 0, ()), TRUE)
         self.check(rules, T, goal, first, second, second[1:])
+        # As many rules are put in as there are on the side that is taken.
+        rules = [rule((), "t", (), given([fact("p")], P))]
+        first = (("use", 0, ()), ("given",), ("use", 1, ()), TRUE)
+        goal = ("or", given([fact("q", C)], both(T, q(C))), given([fact("q", C), fact("q", D)], both(T, q(C))))
+        for side, many in (("left", 1), ("right", 2)):
+            second = (("given",), (side,), ("given",), ("and",), ("use", 1, ()), TRUE, ("use", 2, ()), TRUE)
+            told = first[:2] + (("use", 1 + many, ()), TRUE, ("use", 1, ()), TRUE)
+            self.check(rules, T, goal, first, second, ((side,), ("given",), ("and",)) + told)
         rules = [rule((), "t", (), ("all", A, ("some", A, equal(A, b(0), b(1)))))]
         first = (("all",), ("use", 0, ()), ("all",), ("some", b(0)), ("equal",))
         second = (("given",), ("all",), ("use", 1, (b(0),)), TRUE)

@@ -160,6 +160,9 @@ class Language(unittest.TestCase):
                 self.assertEqual(len(set(methods)), len(methods))
                 self.assertEqual(own & set(methods), set())
                 self.assertEqual((own | set(methods)) & set(NO_ATTRIBUTES), set())
+                # Simpler than what the rules allow, too.
+                for value in ("", 0, b"", [], {}, (), set()):
+                    self.assertEqual((own | set(methods)) & set(dir(value)), {"__init__"} & set(methods))
         # No name is an attribute in one class and a method in another one: simpler than what the rules allow.
         self.assertEqual(assigned & self.methods(), set())
         known = assigned | self.methods() | set(METHODS) | {"__init__"}

@@ -144,6 +144,19 @@ class Levels(Same):
                 answers += len(self.check(atom("two", first, second), (A, A, AA), rules))
         self.assertGreater(answers, 100)
 
+    def test_heads_with_binders(self):
+        rules = [rule((AA, A), "r", ((1, ("c", "s"), (b(2, b(0)),)), b(0))),
+                 rule((AA,), "r", ((1, ("c", "f"), (b(1, b(0)), b(1, b(0)))), C)),
+                 rule((A,), "r", ((1, ("c", "f"), (b(0), b(1))), b(0))), rule((AA, A), "r", ((1, ("b", 2), (b(0),)), b(0)))]
+        x = (0, ("b", 0), ())
+        terms = [(1,) + body[1:] for body in (c("s", x), c("s", c("s", x)), c("s", C), c("f", x, x), c("f", x, C), C, x,
+                                              c("f", c("s", x), c("s", x)), h(1, x), c("s", h(1, x)), c("f", x, X))]
+        answers = 0
+        for first in terms:
+            for second in (X, C, c("s", X)):
+                answers += len(self.check(atom("r", first, second), (A, AA), rules))
+        self.assertGreater(answers, 50)
+
     def test_matches(self):
         goal = every((A, A), ("some", AA, ("some", A, both(
             equal(A, h(0, b(3)), b(0)), matched(A, c("f", b(1, b(2)), h(0, C)), c("f", b(2), C))))))
@@ -153,6 +166,15 @@ class Levels(Same):
         goal = every((A,), ("some", A, both(matched(A, b(0), c("f", b(1), C)),
                                             ("all", A, equal(A, h(0, b(2), b(0)), b(1))))))
         self.assertEqual(self.check(goal, (AAA,)), [((2, ("c", "f"), (b(1), C)),)])
+        # What is matched is used with other parts later, below other names.
+        later = every((A, A), equal(A, h(0, b(0)), b(0)))
+        self.assertEqual(self.check(both(matched(A, h(0, C), C), later), (AA,)), [((1, ("b", 0), ()),)])
+        later = every((A, A, A), equal(A, h(0, b(0), b(1)), b(0)))
+        self.assertEqual(self.check(both(matched(A, h(0, C, D), C), later), (AAA,)), [((2, ("b", 1), ()),)])
+        inner = both(matched(A, b(0, C), C), every((A, A), equal(A, b(2, b(0)), b(0))))
+        self.assertEqual(self.check(("all", A, ("some", AA, inner)), ()), [()])
+        inner = both(matched(A, b(0, C), b(1)), every((A, A), equal(A, b(2, b(0)), b(3))))
+        self.assertEqual(self.check(("all", A, ("some", AA, inner)), ()), [()])
         # What is matched may be lowered, and go on to be an argument.
         goal = every((A, A), ("some", A, both(equal(A, h(0, b(2)), b(0)), matched(A, h(0, b(1)), b(1)))))
         self.assertEqual(self.check(goal, (AA,)), [((1, ("b", 0), ()),)])
