@@ -36,7 +36,7 @@ def problem_of(signature, holes, filling, prefix, rows):
     return (signature, tuple([holes.kinds[hole] for hole in numbers]), equations), numbers
 
 
-class Writer:
+class Scribe:
     """Solves equations, and writes down the rows of steps for them."""
 
     def __init__(self, signature):
@@ -116,9 +116,9 @@ def refusal(program, question, height):
     if not is_refused(Search(program, question, Solver(), height)):
         return None
     # Rows are written for a search alone that is known to be refused: for others they might be too large.
-    writer = Writer(program[0])
-    is_refused(Search(program, question, writer, height))
-    return tuple(writer.paper)
+    scribe = Scribe(program[0])
+    is_refused(Search(program, question, scribe, height))
+    return tuple(scribe.paper)
 
 
 def is_refusal(program, question, paper):
